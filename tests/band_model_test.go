@@ -147,7 +147,11 @@ func allBands(quota, cpus int) []impl.Band {
 // thrownBand is some pool that is ok.
 func thrownBand(d *dice) impl.Band {
 	quota := d.oneOf(1, 2, 19, 20, 21, 40, 41, 61, 100, 1+d.below(300), 1+d.below(300), quotaLimit)
-	cpus := 1 + d.below(cpuLimit)
+	return thrownBandOf(d, quota, 1+d.below(cpuLimit))
+}
+
+// thrownBandOf is some pool of a quota and so many processors that is ok.
+func thrownBandOf(d *dice, quota, cpus int) impl.Band {
 	b := impl.Band{Quota: quota, Dry: make([]bool, cpus)}
 	left := quota
 	for range cpus {
