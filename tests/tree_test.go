@@ -3,7 +3,6 @@ package tests
 import (
 	"slices"
 	"strings"
-	"sync"
 	"testing"
 
 	"loop.example/stint/impl"
@@ -278,19 +277,5 @@ func TestTreeIsTheSameEachTime(t *testing.T) {
 	for range 6 {
 		lists = append(lists, thrownTree(d, groupLimit))
 	}
-	for _, l := range lists {
-		want := treeAnswers(l)
-		var all sync.WaitGroup
-		for range 4 {
-			all.Go(func() {
-				for range 25 {
-					if got := treeAnswers(l); got != want {
-						t.Errorf("%s, then %s", want, got)
-						return
-					}
-				}
-			})
-		}
-		all.Wait()
-	}
+	wantSameEachTime(t, lists, treeAnswers)
 }

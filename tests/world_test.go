@@ -5,7 +5,6 @@ import (
 	"reflect"
 	"strconv"
 	"strings"
-	"sync"
 	"testing"
 
 	"loop.example/stint/impl"
@@ -351,10 +350,9 @@ func TestWorldsOfAnything(t *testing.T) {
 	}
 }
 
-// Room ends behind TimeMax / 2, wherever in the world that is, and hangs on nothing else.
-func TestWorldRoomAtTheEdges(t *testing.T) {
-	const half = timeLimit / 2
-	fields := map[string]func(w *impl.World) *int{
+// roomFields are the times and sums of roomyWorld that may be anything.
+func roomFields() map[string]func(w *impl.World) *int {
+	return map[string]func(w *impl.World) *int{
 		"Now":                     func(w *impl.World) *int { return &w.Now },
 		"Busy":                    func(w *impl.World) *int { return &w.Cpus[0].Busy },
 		"Busy of one down":        func(w *impl.World) *int { return &w.Cpus[3].Busy },
@@ -371,7 +369,12 @@ func TestWorldRoomAtTheEdges(t *testing.T) {
 		"a task's Sum":            func(w *impl.World) *int { return &w.Tasks[0].Sum },
 		"a task's Used":           func(w *impl.World) *int { return &w.Tasks[7].Used },
 	}
-	for name, field := range fields {
+}
+
+// Room ends behind TimeMax / 2, wherever in the world that is, and hangs on nothing else.
+func TestWorldRoomAtTheEdges(t *testing.T) {
+	const half = timeLimit / 2
+	for name, field := range roomFields() {
 		for n, room := range map[int]bool{0: true, half - 1: true, half: true, half + 1: false, timeLimit: false} {
 			w := roomyWorld()
 			*field(&w) = n
@@ -496,21 +499,7 @@ func TestWorldIsTheSameEachTime(t *testing.T) {
 	for range 6 {
 		worlds = append(worlds, thrownWorld(d, timeLimit))
 	}
-	for _, w := range worlds {
-		want := worldAnswers(w)
-		var all sync.WaitGroup
-		for range 4 {
-			all.Go(func() {
-				for range 10 {
-					if got := worldAnswers(w); got != want {
-						t.Errorf("%s, then %s", want, got)
-						return
-					}
-				}
-			})
-		}
-		all.Wait()
-	}
+	wantSameEachTime(t, worlds, worldAnswers)
 }
 
 // No two lists of a new world share memory: what is put into one is not seen in another.
