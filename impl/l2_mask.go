@@ -102,6 +102,14 @@ func (s cpuSet) firstFrom(cpu int) int {
 	return -1
 }
 
+// stayOrFirst is a processor itself if it is a member, else the first member.
+func (s cpuSet) stayOrFirst(cpu int) int {
+	if s.has(cpu) {
+		return cpu
+	}
+	return s.firstFrom(0)
+}
+
 // runLast is where the run of neighbours ends that begins at the member first.
 func (s cpuSet) runLast(first int) int {
 	gap := s.others().firstFrom(first)

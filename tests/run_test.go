@@ -587,23 +587,7 @@ func worldsToKeep(d *dice) []impl.World {
 func TestRunMemory(t *testing.T) {
 	for _, world := range worldsToKeep(&dice{state: 92}) {
 		for name, call := range runCalls() {
-			w, asItWas := worldWithRoom(world)
-			out, code := call(w)
-			if !asItWas() {
-				t.Fatalf("%s: written into %+v", name, world)
-			}
-			want, wantCode := call(world)
-			if code != wantCode || !sameWorld(out, want) {
-				t.Fatalf("%s: spare room is looked at: %d, %+v", name, code, out)
-			}
-			scribbleWorld(out)
-			if !asItWas() {
-				t.Fatalf("%s: code %d: shares memory with %+v", name, code, world)
-			}
-			scribbleWorld(w)
-			if again, _ := call(world); !sameWorld(again, want) {
-				t.Fatalf("%s: something is kept: %+v", name, again)
-			}
+			wantKept(t, name, world, call)
 		}
 		for cpu := -1; cpu <= cpuLimit; cpu++ {
 			w, asItWas := worldWithRoom(world)
@@ -615,36 +599,64 @@ func TestRunMemory(t *testing.T) {
 	}
 }
 
-// No two lists of one answer share memory: what is put behind or into one is not seen in another.
+// wantKept holds a call against what is said of memory: a world that is handed in is as it was, and nothing of it is in the answer.
+func wantKept(t *testing.T, name string, world impl.World, call func(w impl.World) (impl.World, int)) {
+	t.Helper()
+	w, asItWas := worldWithRoom(world)
+	out, code := call(w)
+	if !asItWas() {
+		t.Fatalf("%s: written into %+v", name, world)
+	}
+	want, wantCode := call(world)
+	if code != wantCode || !sameWorld(out, want) {
+		t.Fatalf("%s: spare room is looked at: %d, %+v", name, code, out)
+	}
+	scribbleWorld(out)
+	if !asItWas() {
+		t.Fatalf("%s: code %d: shares memory with %+v", name, code, world)
+	}
+	scribbleWorld(w)
+	if again, _ := call(world); !sameWorld(again, want) {
+		t.Fatalf("%s: something is kept: %+v", name, again)
+	}
+}
+
+// No two lists of one answer share memory.
 func TestRunListsAreApart(t *testing.T) {
 	for _, world := range worldsToKeep(&dice{state: 93}) {
 		for name, call := range runCalls() {
 			out, _ := call(world)
-			want := cloneWorld(out)
-			for i, group := range out.Groups {
-				_ = append(group.Shelves, impl.Shelf{V: -7})
-				_ = append(group.Band.Locals, -7)
-				_ = append(group.Band.Dry, true)
-				for at := range group.Shelves {
-					group.Shelves[at].Sum = -i - at
-					want.Groups[i].Shelves[at].Sum = -i - at
-				}
-				for at := range group.Band.Locals {
-					group.Band.Locals[at] = -i - at
-					want.Groups[i].Band.Locals[at] = -i - at
-				}
-				for at := range group.Band.Dry {
-					group.Band.Dry[at] = i%2 == 0
-					want.Groups[i].Band.Dry[at] = i%2 == 0
-				}
-			}
-			_ = append(out.Cpus, impl.Cpu{Cur: 7})
-			_ = append(out.Tasks, impl.Task{State: 7})
-			_ = append(out.Groups, impl.Group{Parent: 7})
-			if !sameWorld(out, want) {
-				t.Fatalf("%s: %+v, want %+v", name, out, want)
-			}
+			wantListsApart(t, name, out)
 		}
+	}
+}
+
+// wantListsApart puts something behind and into each list of a world: it is not seen in another one.
+func wantListsApart(t *testing.T, name string, out impl.World) {
+	t.Helper()
+	want := cloneWorld(out)
+	for i, group := range out.Groups {
+		_ = append(group.Shelves, impl.Shelf{V: -7})
+		_ = append(group.Band.Locals, -7)
+		_ = append(group.Band.Dry, true)
+		for at := range group.Shelves {
+			group.Shelves[at].Sum = -i - at
+			want.Groups[i].Shelves[at].Sum = -i - at
+		}
+		for at := range group.Band.Locals {
+			group.Band.Locals[at] = -i - at
+			want.Groups[i].Band.Locals[at] = -i - at
+		}
+		for at := range group.Band.Dry {
+			group.Band.Dry[at] = i%2 == 0
+			want.Groups[i].Band.Dry[at] = i%2 == 0
+		}
+	}
+	_ = append(out.Cpus, impl.Cpu{Cur: 7})
+	_ = append(out.Tasks, impl.Task{State: 7})
+	_ = append(out.Groups, impl.Group{Parent: 7})
+	if !sameWorld(out, want) {
+		t.Fatalf("%s: %+v, want %+v", name, out, want)
 	}
 }
 
