@@ -7,108 +7,56 @@ import (
 	"loop.example/stint/impl"
 )
 
-// callFault is one thing for which a call is refused, brought about in several ways.
-type callFault struct {
-	code int
-	ways []func(w *impl.World, c *taskCall)
-}
-
-// faultOf is a fault of one argument, at each of these numbers.
-func faultOf(code int, numbers []int, argument func(c *taskCall) *int) callFault {
-	f := callFault{code: code}
-	for _, n := range numbers {
-		f.ways = append(f.ways, func(_ *impl.World, c *taskCall) { *argument(c) = n })
-	}
-	return f
-}
-
-func niceFault() callFault {
+func niceFault() callFault[taskCall] {
 	return faultOf(impl.CodeBad, append([]int{-11, 10, 11, 1 << 32}, farInts()...), func(c *taskCall) *int { return &c.nice })
 }
 
-func maskFault() callFault {
+func maskFault() callFault[taskCall] {
 	return faultOf(impl.CodeBad, append([]int{-1, 0, 16, 17, 1 << 32, 1<<32 + 1}, farInts()...), func(c *taskCall) *int { return &c.mask })
 }
 
 // taskFault names places of callWorld where no task is.
-func taskFault() callFault {
+func taskFault() callFault[taskCall] {
 	return faultOf(impl.CodeNone, append([]int{-1, 6, 8, 11, 12, 13, 1 << 32, 1<<32 + 1}, farInts()...), func(c *taskCall) *int { return &c.task })
 }
 
 // groupFault names places of callWorld where no group is.
-func groupFault() callFault {
+func groupFault() callFault[taskCall] {
 	return faultOf(impl.CodeNone, append([]int{-1, 4, 7, 8, 9, 1 << 32}, farInts()...), func(c *taskCall) *int { return &c.group })
 }
 
-func fullFault() callFault {
-	return callFault{impl.CodeFull, []func(w *impl.World, c *taskCall){func(w *impl.World, _ *taskCall) { fillTasks(w) }}}
+func fullFault() callFault[taskCall] {
+	return callFault[taskCall]{impl.CodeFull, []func(w *impl.World, c *taskCall){func(w *impl.World, _ *taskCall) { fillTasks(w) }}}
 }
 
 // stateFault names tasks of callWorld that are in another state.
-func stateFault(tasks ...int) callFault {
+func stateFault(tasks ...int) callFault[taskCall] {
 	return faultOf(impl.CodeState, tasks, func(c *taskCall) *int { return &c.task })
 }
 
-func endFault() callFault {
-	return callFault{impl.CodeEnd, []func(w *impl.World, c *taskCall){
-		func(w *impl.World, _ *taskCall) { w.Tasks[7].Sum = timeLimit/2 + 1 },
-		func(w *impl.World, _ *taskCall) { w.Cpus[3].Idle = timeLimit },
-		func(w *impl.World, _ *taskCall) { w.Groups[5].Shelves[1].V = timeLimit/2 + 1 },
-	}}
-}
-
 // callFaults are calls that are done in callWorld, each with what may be wrong, in the order in which the document looks for it.
-func callFaults() map[taskCall][]callFault {
-	return map[taskCall][]callFault{
-		{what: callFork, group: 2, nice: 3, mask: 9}: {niceFault(), maskFault(), groupFault(), fullFault(), endFault()},
-		{what: callBlock, task: 1}:                   {taskFault(), stateFault(3, 7), endFault()},
-		{what: callWake, task: 3}:                    {taskFault(), stateFault(0, 1, 2, 4, 5), endFault()},
-		{what: callExit, task: 1}:                    {taskFault(), endFault()},
-		{what: callExit, task: 3}:                    {taskFault(), endFault()},
-		{what: callNice, task: 1, nice: -10}:         {niceFault(), taskFault(), endFault()},
-		{what: callNice, task: 3, nice: 9}:           {niceFault(), taskFault(), endFault()},
-		{what: callPin, task: 1, mask: 4}:            {maskFault(), taskFault(), endFault()},
-		{what: callPin, task: 3, mask: 15}:           {maskFault(), taskFault(), endFault()},
-		{what: callMove, task: 1, group: 6}:          {taskFault(), groupFault(), endFault()},
-		{what: callMove, task: 3, group: 2}:          {taskFault(), groupFault(), endFault()},
+func callFaults() map[taskCall][]callFault[taskCall] {
+	end := endFault[taskCall]()
+	return map[taskCall][]callFault[taskCall]{
+		{what: callFork, group: 2, nice: 3, mask: 9}: {niceFault(), maskFault(), groupFault(), fullFault(), end},
+		{what: callBlock, task: 1}:                   {taskFault(), stateFault(3, 7), end},
+		{what: callWake, task: 3}:                    {taskFault(), stateFault(0, 1, 2, 4, 5), end},
+		{what: callExit, task: 1}:                    {taskFault(), end},
+		{what: callExit, task: 3}:                    {taskFault(), end},
+		{what: callNice, task: 1, nice: -10}:         {niceFault(), taskFault(), end},
+		{what: callNice, task: 3, nice: 9}:           {niceFault(), taskFault(), end},
+		{what: callPin, task: 1, mask: 4}:            {maskFault(), taskFault(), end},
+		{what: callPin, task: 3, mask: 15}:           {maskFault(), taskFault(), end},
+		{what: callMove, task: 1, group: 6}:          {taskFault(), groupFault(), end},
+		{what: callMove, task: 3, group: 2}:          {taskFault(), groupFault(), end},
 	}
 }
 
 // Whatever is wrong at once, told is the code that the document looks for first.
-func TestTaskCodes(t *testing.T) {
-	for call, faults := range callFaults() {
-		mustCall(t, callWorld(), call)
-		for set := 1; set < 1<<len(faults); set++ {
-			for round := range 14 {
-				w, c, want := callWorld(), call, 0
-				// From the last one on, so that of two faults of one argument the first one stays.
-				for i := len(faults) - 1; i >= 0; i-- {
-					if f := faults[i]; set>>i&1 == 1 {
-						f.ways[(round+i)%len(f.ways)](&w, &c)
-						want = f.code
-					}
-				}
-				if !impl.WorldOk(w) {
-					t.Fatalf("%v: %+v", worldFaults(w), w)
-				}
-				wantRefusedCall(t, "faults", w, c, want)
-			}
-		}
-	}
-}
+func TestTaskCodes(t *testing.T) { wantFirstCodes(t, callWorld, callFaults()) }
 
 // Each number that is none is refused by itself.
-func TestTaskCodesOfEachNumber(t *testing.T) {
-	for call, faults := range callFaults() {
-		for _, f := range faults {
-			for _, way := range f.ways {
-				w, c := callWorld(), call
-				way(&w, &c)
-				wantRefusedCall(t, "by itself", w, c, f.code)
-			}
-		}
-	}
-}
+func TestTaskCodesOfEachNumber(t *testing.T) { wantEachCode(t, callWorld, callFaults()) }
 
 // What may be met exactly is met.
 func TestTaskCodesAtTheEdges(t *testing.T) {
@@ -131,24 +79,7 @@ func TestTaskCodesAtTheEdges(t *testing.T) {
 }
 
 // Of what is no world nothing is told, and nothing is done with it, whatever else is asked.
-func TestTasksOfBrokenWorlds(t *testing.T) {
-	var calls []taskCall
-	for call, faults := range callFaults() {
-		calls = append(calls, call)
-		for _, f := range faults {
-			c, w := call, callWorld()
-			f.ways[0](&w, &c)
-			calls = append(calls, c)
-		}
-	}
-	for _, broken := range brokenWorlds() {
-		for _, c := range calls {
-			if out, place, code := c.do(broken.world); code != impl.CodeBad || place != -1 || !isNoWorld(out) {
-				t.Errorf("%s: %+v: %d, %d, %+v", broken.name, c, place, code, out)
-			}
-		}
-	}
-}
+func TestTasksOfBrokenWorlds(t *testing.T) { wantNothingOfBroken(t, callWorld, callFaults()) }
 
 // roomyCalls are calls that are done in roomyWorld.
 func roomyCalls() []taskCall {
@@ -159,22 +90,7 @@ func roomyCalls() []taskCall {
 }
 
 // A call is done as long as nothing is beyond TimeMax / 2, wherever that is.
-func TestTasksRoomAtTheEdges(t *testing.T) {
-	const half = timeLimit / 2
-	for name, field := range roomFields() {
-		for n, want := range map[int]int{half - 1: impl.CodeDone, half: impl.CodeDone, half + 1: impl.CodeEnd, timeLimit: impl.CodeEnd} {
-			for _, c := range roomyCalls() {
-				w := roomyWorld()
-				*field(&w) = n
-				out, place, code := c.do(w)
-				model, modelPlace, _ := modelTask(w, c)
-				if code != want || place != modelPlace || !sameWorld(out, model) || !impl.WorldOk(out) {
-					t.Errorf("%s at %d: %+v: %d, ok %v", name, n, c, code, impl.WorldOk(out))
-				}
-			}
-		}
-	}
-}
+func TestTasksRoomAtTheEdges(t *testing.T) { wantRoomAtTheEdges(t, roomyCalls()) }
 
 // The last calls that have room: to a floor at TimeMax / 2, with the greatest lag. Behind them time is over.
 func TestTasksBeyondTheHalf(t *testing.T) {
@@ -228,29 +144,12 @@ func worldsToCall(d *dice) []impl.World {
 
 // What is handed in is as it was, spare room and all; what is answered shares no memory with it, nor do any two of its lists.
 func TestTasksMemory(t *testing.T) {
-	for _, world := range worldsToCall(&dice{state: 103}) {
-		for _, c := range callsToKeep() {
-			call := func(w impl.World) (impl.World, int) {
-				out, _, code := c.do(w)
-				return out, code
-			}
-			wantKept(t, c.what, world, call)
-			out, _ := call(world)
-			wantListsApart(t, c.what, out)
-		}
-	}
+	wantMemoryKept(t, worldsToCall(&dice{state: 103}), callsToKeep())
 }
 
 // However often it is asked, and by how many at the same time, the same is told.
 func TestTasksAreTheSameEachTime(t *testing.T) {
 	worlds := worldsToCall(&dice{state: 104})
 	worlds = slices.Concat(worlds[:1], worlds[len(worlds)-3:])
-	wantSameEachTime(t, worlds, func(w impl.World) string {
-		told := ""
-		for _, c := range callsToKeep() {
-			out, place, code := c.do(w)
-			told += " " + worldText(out, place, code)
-		}
-		return told
-	})
+	wantSameEachTime(t, worlds, func(w impl.World) string { return callAnswers(w, callsToKeep()) })
 }

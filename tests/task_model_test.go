@@ -143,8 +143,8 @@ func modelRelocate(w impl.World) {
 	}
 }
 
-// modelTask is the document's answer to a call in an ok world.
-func modelTask(w impl.World, c taskCall) (impl.World, int, int) {
+// model is the document's answer to a call in an ok world.
+func (c taskCall) model(w impl.World) (impl.World, int, int) {
 	w = cloneWorld(w)
 	if code := modelTaskCode(w, c); code != 0 {
 		return w, -1, code

@@ -15,25 +15,6 @@ func callWorld() impl.World {
 	return w
 }
 
-// mustCall is a call that is done.
-func mustCall(t *testing.T, w impl.World, c taskCall) impl.World {
-	t.Helper()
-	out, _, code := c.do(w)
-	if code != impl.CodeDone || !impl.WorldOk(out) {
-		t.Fatalf("%+v: code %d: %v: %+v", c, code, worldFaults(out), w)
-	}
-	return out
-}
-
-// wantRefusedCall holds a call against what is said of those that are refused.
-func wantRefusedCall(t *testing.T, name string, w impl.World, c taskCall, want int) {
-	t.Helper()
-	out, place, code := c.do(w)
-	if code != want || place != -1 || !sameWorld(out, w) {
-		t.Errorf("%s: %+v: code %d, want %d, place %d: %+v", name, c, code, want, place, out)
-	}
-}
-
 func wantTask(t *testing.T, name string, got, want impl.Task) {
 	t.Helper()
 	if got != want {

@@ -1,50 +1,15 @@
 package tests
 
 import (
-	"fmt"
 	"testing"
 
 	"loop.example/stint/impl"
 )
 
-// worldText is all of an answer, to be held against another one.
-func worldText(w impl.World, place, code int) string { return fmt.Sprintf("%d %d %+v", place, code, w) }
-
-// wantAsModel holds a call against the second writing of the chapter, and an ok world against staying so.
-func wantAsModel(t *testing.T, w impl.World, c taskCall) (impl.World, int, int) {
-	t.Helper()
-	want, wantPlace, wantCode := modelTask(w, c)
-	got, place, code := c.do(w)
-	if code != wantCode || place != wantPlace || !sameWorld(got, want) {
-		t.Fatalf("%+v: %d, %d, %+v, want %d, %d, %+v: %+v", c, place, code, got, wantPlace, wantCode, want, w)
-	}
-	if !impl.WorldOk(got) {
-		t.Fatalf("%+v: %d, %v: %+v", c, code, worldFaults(got), w)
-	}
-	return got, place, code
-}
-
 // Of thrown worlds, settled or not, calls do what the list says, step by step, and what is ok stays so.
 func TestTasksThrown(t *testing.T) {
-	d := &dice{state: 105}
-	seen := map[string]int{}
-	for range 6000 {
-		w := thrownToCall(d)
-		worldSights(w, seen)
-		for range 12 {
-			c := thrownCall(d, w)
-			out, place, code := wantAsModel(t, w, c)
-			callSights(c, w, out, place, code, seen)
-			if d.below(2) == 0 {
-				w = out
-			}
-		}
-	}
-	for _, sight := range callSightsToSee() {
-		if seen[sight] < 50 {
-			t.Errorf("%s: %d times: the worlds try too little", sight, seen[sight])
-		}
-	}
+	thrower := callThrower[taskCall]{thrownToCall, thrownCall, callSights}
+	thrower.wantAsModel(t, &dice{state: 105}, 6000, callSightsToSee())
 }
 
 // callSightsToSee are what thrown calls must have done, so that they are worth something.
@@ -118,13 +83,7 @@ func TestTasksPlayed(t *testing.T) {
 			case 3:
 				w, _ = impl.WorldYield(w, cpu)
 			case 4:
-				n := 1 + d.below(tickLimit)
-				want, wantCode, _ := modelWorldRun(w, cpu, n)
-				got, code := impl.WorldRun(w, cpu, n)
-				if code != wantCode || !sameWorld(got, want) || !impl.WorldOk(got) {
-					t.Fatalf("run of %d on %d: %d, %+v, want %+v: %+v", n, cpu, code, got, want, w)
-				}
-				w = got
+				w = wantRunAsModel(t, w, cpu, 1+d.below(tickLimit))
 			}
 		}
 	}
