@@ -237,33 +237,40 @@ func (s spendings) see(t *testing.T, was, is impl.World) {
 	}
 }
 
-// thrownPlay is a new world behind as many thrown calls, of tasks and of groups, with runs and yields between them; all that is done is held against the document, and told.
-func thrownPlay(t *testing.T, d *dice, calls int, told func(was, is impl.World)) {
+// thrownPlay is a new world behind as many thrown steps; all that is done is held against the document, and told.
+func thrownPlay(t *testing.T, d *dice, steps int, told func(was, is impl.World)) {
 	t.Helper()
 	w := emptyWorld(1 + d.below(cpuLimit))
-	for range calls {
+	for range steps {
 		was := w
-		switch cpu := d.below(len(w.Cpus)); d.below(8) {
-		case 0, 1, 2:
-			w = wantRunAsModel(t, w, cpu, 1+d.below(tickLimit))
-		case 3:
-			w, _ = impl.WorldYield(w, cpu)
-		case 4:
-			w, _, _ = wantAsModel(t, w, taskCall{what: callFork, group: d.below(groupLimit), nice: d.below(20) - 10, mask: 1 + d.below(everyCpu)})
-		case 5:
-			w, _, _ = wantAsModel(t, w, thrownCall(d, w))
-		default:
-			c := thrownGroupCall(d, w)
-			switch {
-			case c.what == callLimit && c.n > 0 && d.below(2) == 0:
-				c.n, c.period = 1+d.below(150), 1+d.below(40)
-			case c.what == callTime:
-				c.n = 1 + d.below(30)
-			}
-			w, _, _ = wantAsModel(t, w, c)
-		}
+		w = thrownStep(t, d, w)
 		told(was, w)
 	}
+}
+
+// thrownStep is a world behind some run, yield or call of tasks or groups that is held against the document.
+func thrownStep(t *testing.T, d *dice, w impl.World) impl.World {
+	t.Helper()
+	switch cpu := d.below(len(w.Cpus)); d.below(8) {
+	case 0, 1, 2:
+		w = wantRunAsModel(t, w, cpu, 1+d.below(tickLimit))
+	case 3:
+		w, _ = impl.WorldYield(w, cpu)
+	case 4:
+		w, _, _ = wantAsModel(t, w, taskCall{what: callFork, group: d.below(groupLimit), nice: d.below(20) - 10, mask: 1 + d.below(everyCpu)})
+	case 5:
+		w, _, _ = wantAsModel(t, w, thrownCall(d, w))
+	default:
+		c := thrownGroupCall(d, w)
+		switch {
+		case c.what == callLimit && c.n > 0 && d.below(2) == 0:
+			c.n, c.period = 1+d.below(150), 1+d.below(40)
+		case c.what == callTime:
+			c.n = 1 + d.below(30)
+		}
+		w, _, _ = wantAsModel(t, w, c)
+	}
+	return w
 }
 
 // From a new world on, with runs and calls of tasks between them, calls do what the list says; no group gets more than its quota.
