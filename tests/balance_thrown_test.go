@@ -203,12 +203,14 @@ func cpuSightsToSee() []string {
 
 // Of thrown worlds, settled or not, calls do what the list says, step by step, and what is ok stays so.
 func TestBalanceThrown(t *testing.T) {
+	t.Parallel()
 	thrower := callThrower[cpuCall]{thrownToBalance, thrownCpuCall, cpuSights}
 	thrower.wantAsModel(t, &dice{state: 121}, 6000, cpuSightsToSee())
 }
 
 // Of thrown worlds, settled or not, all is told as the words say, at places that there are and at others.
 func TestLoadsThrown(t *testing.T) {
+	t.Parallel()
 	d := &dice{state: 122}
 	for range 3000 {
 		wantLoadsAsModel(t, thrownToBalance(d), []int{-1, 0, 1, 2, 3, 4}, []int{-1, 0, 1, 2}, []int{-1, 0, 1, 2, 3, 4, 5, 6, 7, 8})
@@ -231,6 +233,7 @@ func TestBalanceThrownAtAnything(t *testing.T) {
 
 // From a new world on, with runs and calls of tasks and groups between them, calls do what the list says, and all is told as the words say.
 func TestBalancePlayed(t *testing.T) {
+	t.Parallel()
 	d := &dice{state: 124}
 	taken, down := 0, 0
 	for range 60 {

@@ -183,11 +183,13 @@ func worldsToGroup(d *dice) []impl.World {
 
 // What is handed in is as it was, spare room and all; what is answered shares no memory with it, nor do any two of its lists.
 func TestGroupsMemory(t *testing.T) {
+	t.Parallel()
 	wantMemoryKept(t, worldsToGroup(&dice{state: 114}), groupCallsToKeep())
 }
 
 // However often it is asked, and by how many at the same time, the same is told.
 func TestGroupsAreTheSameEachTime(t *testing.T) {
+	t.Parallel()
 	worlds := worldsToGroup(&dice{state: 115})
 	worlds = slices.Concat(worlds[:1], worlds[len(worlds)-4:])
 	wantSameEachTime(t, worlds, func(w impl.World) string { return callAnswers(w, groupCallsToKeep()) })

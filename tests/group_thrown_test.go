@@ -180,6 +180,7 @@ func groupSightsToSee() []string {
 
 // Of thrown worlds, settled or not, calls do what the list says, step by step, and what is ok stays so.
 func TestGroupsThrown(t *testing.T) {
+	t.Parallel()
 	thrower := callThrower[groupCall]{thrownToGroup, thrownGroupCall, groupSights}
 	thrower.wantAsModel(t, &dice{state: 111}, 6000, groupSightsToSee())
 }
@@ -191,6 +192,7 @@ func numbersToTry() []int {
 
 // Of thrown worlds, with and without room, all that may be asked is told as the words say.
 func TestGroupsThrownAtAnything(t *testing.T) {
+	t.Parallel()
 	d := &dice{state: 112}
 	groups := append([]int{-1, groupLimit, groupLimit + 1, 1 << 32}, farInts()...)
 	for at := range groupLimit {
@@ -275,6 +277,7 @@ func thrownStep(t *testing.T, d *dice, w impl.World) impl.World {
 
 // From a new world on, with runs and calls of tasks between them, calls do what the list says; no group gets more than its quota.
 func TestGroupsPlayed(t *testing.T) {
+	t.Parallel()
 	d := &dice{state: 113}
 	dry, groups := 0, 0
 	for range 60 {

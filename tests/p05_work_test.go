@@ -46,6 +46,7 @@ func wantWork(t *testing.T, w impl.World, cpu int) bool {
 
 // P5: of thrown worlds, settled or not, each processor.
 func TestIdleFindsWork(t *testing.T) {
+	t.Parallel()
 	d := &dice{state: 5}
 	seen := map[string]int{}
 	for range 6000 {

@@ -46,6 +46,7 @@ func wantNobodyLost(t *testing.T, c cpuCall, was impl.World) (impl.World, int) {
 
 // P6: of thrown worlds, with and without room, settled or not, processors go and come, one behind the other.
 func TestNobodyIsLost(t *testing.T) {
+	t.Parallel()
 	d := &dice{state: 6}
 	seen := map[string]int{}
 	for range 4000 {

@@ -22,6 +22,7 @@ func wantNoCredit(t *testing.T, c taskCall, was, is impl.World, task int) {
 
 // P13: of thrown worlds, settled or not, behind each call: whoever it is about, and everybody else.
 func TestSleepingEarnsNoCredit(t *testing.T) {
+	t.Parallel()
 	d := &dice{state: 13}
 	seen := map[string]int{}
 	for range 4000 {

@@ -28,6 +28,7 @@ func wantWholeQuota(t *testing.T, name string, w impl.World, group int) {
 
 // P14: of thrown worlds with room, settled or not, behind as much time as a group's period, or more, in one call or in several.
 func TestNewPeriodIsWhole(t *testing.T) {
+	t.Parallel()
 	d := &dice{state: 14}
 	seen := map[string]int{}
 	for range 6000 {

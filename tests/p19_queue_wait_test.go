@@ -34,6 +34,7 @@ func ticksOf(d *dice) []func() int {
 
 // P19: behind as many units as QueueWait tells the entry has got what was asked for, whatever the ticks.
 func TestNobodyStarves(t *testing.T) {
+	t.Parallel()
 	d := &dice{state: 19}
 	for round := range 500 {
 		q := thrownQueue(d, 1+round%20)
@@ -58,6 +59,7 @@ func TestNobodyStarves(t *testing.T) {
 
 // P19: QueueMaxAsk units are got, alone and beside one of the same weight.
 func TestNobodyStarvesForLong(t *testing.T) {
+	t.Parallel()
 	ops := make([]impl.QueueOp, opsLimit)
 	for i := range ops {
 		ops[i] = impl.QueueOp{Kind: impl.QueueRuns, N: tickLimit}

@@ -80,6 +80,7 @@ func wantNoGroup(t *testing.T, l []impl.Group, g int) {
 
 // P26: of thrown trees of one to GroupMax groups, with free places between.
 func TestTreeGroupsAreFound(t *testing.T) {
+	t.Parallel()
 	d := &dice{state: 26}
 	depths := map[int]int{}
 	behind := 0
@@ -191,6 +192,7 @@ func TestTreeGroupsAreFoundByTheirPathsAlone(t *testing.T) {
 
 // P26: of all short texts of strokes, names and other signs just the paths find something.
 func TestTreeFindOfEveryShortText(t *testing.T) {
+	t.Parallel()
 	l := treeWith(map[int]impl.Group{1: {Parent: 6, Name: "b"}, 3: {Parent: 1, Name: "a"}, 4: {Name: "ab"}, 6: {Name: "a"}, 7: {Parent: 6, Name: "bb"}})
 	paths := []string{"/", "/a/b", "", "/a/b/a", "/ab", "", "/a", "/a/bb"}
 	signs := []string{"/", "a", "b", "A", ".", "\xff", "\u00e1"}

@@ -61,6 +61,7 @@ func wantNoMoreUnlike(t *testing.T, was impl.World, cpu int) {
 
 // P36: of thrown worlds, with and without room, settled or not, each processor.
 func TestPullMakesNothingMoreUnlike(t *testing.T) {
+	t.Parallel()
 	d := &dice{state: 36}
 	seen := map[string]int{}
 	for range 6000 {

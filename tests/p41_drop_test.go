@@ -39,6 +39,7 @@ func wantDropped(t *testing.T, w impl.World, group int) (impl.World, int) {
 
 // P41: of thrown worlds, with and without room, settled or not, each group, one behind the other.
 func TestDropJustOfEmptyGroups(t *testing.T) {
+	t.Parallel()
 	d := &dice{state: 41}
 	seen := map[int]int{}
 	depths := map[int]int{}

@@ -34,6 +34,7 @@ func wantSharesOf(t *testing.T, w impl.World, group int) int {
 
 // P50: of thrown worlds, with and without room, settled or not, each group but the root.
 func TestSharesComeToTheWeight(t *testing.T) {
+	t.Parallel()
 	d := &dice{state: 50}
 	seen := map[string]int{}
 	for range 6000 {

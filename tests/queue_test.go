@@ -251,6 +251,7 @@ func wantRefused(t *testing.T, name string, q impl.Queue, op impl.QueueOp) {
 
 // Thrown queues and plays, held against the document's words written again.
 func TestQueueAsTheDocumentSays(t *testing.T) {
+	t.Parallel()
 	d := &dice{state: 4}
 	for round := range 3000 {
 		q := thrownQueue(d, 1+round%20)

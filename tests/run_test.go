@@ -495,6 +495,7 @@ func countPieces(pieces []runPiece, seen map[string]int) {
 
 // Of thrown worlds runs do what the list says, step by step, and what is ok stays so.
 func TestRunsThrown(t *testing.T) {
+	t.Parallel()
 	d := &dice{state: 9}
 	seen := map[string]int{}
 	for range 2500 {
@@ -536,6 +537,7 @@ func TestRunsThrown(t *testing.T) {
 
 // Of thrown worlds, with and without room, all that may be asked is told as the words say.
 func TestRunsThrownAtAnything(t *testing.T) {
+	t.Parallel()
 	d := &dice{state: 91}
 	for round := range 150 {
 		w := thrownWorld(d, []int{timeLimit, timeLimit / 2, timeLimit/2 + 1, 10 * unitStep}[round%4])
@@ -684,6 +686,7 @@ func runAnswers(w impl.World) string {
 
 // However often it is asked, and by how many at the same time, the same is told.
 func TestRunIsTheSameEachTime(t *testing.T) {
+	t.Parallel()
 	d := &dice{state: 94}
 	worlds := []impl.World{handWorld(), roomyWorld(), nestedWorld(33, 20, 50), brokenWorlds()[0].world}
 	for range 6 {

@@ -144,11 +144,13 @@ func worldsToCall(d *dice) []impl.World {
 
 // What is handed in is as it was, spare room and all; what is answered shares no memory with it, nor do any two of its lists.
 func TestTasksMemory(t *testing.T) {
+	t.Parallel()
 	wantMemoryKept(t, worldsToCall(&dice{state: 103}), callsToKeep())
 }
 
 // However often it is asked, and by how many at the same time, the same is told.
 func TestTasksAreTheSameEachTime(t *testing.T) {
+	t.Parallel()
 	worlds := worldsToCall(&dice{state: 104})
 	worlds = slices.Concat(worlds[:1], worlds[len(worlds)-3:])
 	wantSameEachTime(t, worlds, func(w impl.World) string { return callAnswers(w, callsToKeep()) })

@@ -8,6 +8,7 @@ import (
 
 // Of thrown worlds, settled or not, calls do what the list says, step by step, and what is ok stays so.
 func TestTasksThrown(t *testing.T) {
+	t.Parallel()
 	thrower := callThrower[taskCall]{thrownToCall, thrownCall, callSights}
 	thrower.wantAsModel(t, &dice{state: 105}, 6000, callSightsToSee())
 }
@@ -38,6 +39,7 @@ func callSightsToSee() []string {
 
 // Of thrown worlds, with and without room, all that may be asked is told as the words say.
 func TestTasksThrownAtAnything(t *testing.T) {
+	t.Parallel()
 	d := &dice{state: 106}
 	tasks := append([]int{-1, taskLimit, taskLimit + 1, 1 << 32}, farInts()...)
 	for at := range taskLimit {

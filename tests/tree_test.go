@@ -158,6 +158,7 @@ func wantAsWords(t *testing.T, l []impl.Group) bool {
 
 // All ways in which four groups can stand, free or in any place there is or is not, by names of their own and by one name.
 func TestTreeOfAllSmall(t *testing.T) {
+	t.Parallel()
 	const free = -2
 	for _, c := range []struct {
 		names []string
@@ -188,6 +189,7 @@ func TestTreeOfAllSmall(t *testing.T) {
 
 // Trees in which one thing or two are changed at random, to what may be and to what may not.
 func TestTreeOfThrownChanges(t *testing.T) {
+	t.Parallel()
 	d := &dice{state: 6}
 	names := []string{"a", "b", "c", "z9", "", "max", "A", "abcdefghi", "\xff", "stat"}
 	good, bad := 0, 0

@@ -198,6 +198,7 @@ func worldSights(w impl.World, seen map[string]int) {
 
 // Of thrown worlds all is told as the words say, at places that there are and at others.
 func TestWorldsThrown(t *testing.T) {
+	t.Parallel()
 	d := &dice{state: 8}
 	seen := map[string]int{}
 	for round := range 1500 {
@@ -276,6 +277,7 @@ func fieldsOf(v reflect.Value) (numbers []reflect.Value, switches []reflect.Valu
 
 // Whatever one field of a world becomes, it is ok just if the words say so.
 func TestWorldOkWithOneFieldChanged(t *testing.T) {
+	t.Parallel()
 	d := &dice{state: 88}
 	worlds := []impl.World{handWorld(), emptyWorld(1), emptyWorld(4)}
 	for range 12 {
@@ -472,6 +474,7 @@ func worldAnswers(w impl.World) string {
 
 // Nothing is written into what is handed in, nor behind its end.
 func TestWorldMemory(t *testing.T) {
+	t.Parallel()
 	d := &dice{state: 81}
 	worlds := []impl.World{handWorld()}
 	for range 200 {
